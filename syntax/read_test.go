@@ -151,3 +151,17 @@ func TestNothingBesideAnError(t *testing.T) { // P1
 		}
 	}
 }
+
+func TestIsName(t *testing.T) { // Words
+	for _, name := range []string{"a", "z", "_", "abcdefgh", "________", "selects", "ro"} {
+		if !IsName(name) {
+			t.Errorf("IsName(%q) is false", name)
+		}
+	}
+	wrong := strings.Fields("and as by count from max min order over partition preceding row_number rows select sum union where with")
+	for _, text := range append(wrong, "", "abcdefghi", "A", "a1", "a b", "a.", "`", "{", "é", "a\x00") {
+		if IsName(text) {
+			t.Errorf("IsName(%q) is true", text)
+		}
+	}
+}

@@ -1,6 +1,7 @@
 package syntax
 
 import (
+	"errors"
 	"strconv"
 	"strings"
 
@@ -72,13 +73,17 @@ func (t token) letters(text string) (token, error) {
 }
 
 func (t token) digits(text string) (token, error) {
-	// Digits alone can fail here only by being too great for an int.
 	value, err := strconv.Atoi(text)
-	if err != nil || value > api.MaxNumber {
+	if errors.Is(err, strconv.ErrRange) || value > api.MaxNumber {
 		return token{}, t.Wrong(api.ErrNumber)
 	}
 	t.kind, t.text, t.value = kindNumber, text, value
 	return t, nil
+}
+
+// IsName tells whether a text is a name.
+func IsName(text string) bool {
+	return text != "" && len(text) <= api.MaxName && leading(text, isLetter) == text && !isWord(text)
 }
 
 // leading is as much of the text's beginning as is of one kind.
