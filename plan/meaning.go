@@ -1,6 +1,7 @@
 package plan
 
 import (
+	"math"
 	"slices"
 
 	"quarry/api"
@@ -13,11 +14,15 @@ type value func(row []int) int
 // test tells whether such a row is chosen.
 type test func(row []int) bool
 
+// item works out its number for each of the rows that were chosen: it is given
+// all of them, because a window looks at many for each one.
+type item func(rows [][]int) []int
+
 // selection is a select whose names have been found.
 type selection struct {
 	sources []source
 	width   int // of a row that was put together: the columns of all sources
-	items   []value
+	items   []item
 	tests   []test
 }
 
@@ -33,14 +38,14 @@ type source struct {
 // that no caller asks for one, and keeps the first.
 type finder struct {
 	tables []api.Table
+	inWith bool // where no window may be
 	found  selection
 	err    error
 }
 
-// meaning finds the sources ahead of the items and these ahead of the tests,
+// selection finds the sources ahead of the items and these ahead of the tests,
 // because the first error on this way is the one that is told.
-func meaning(s *syntax.Select, tables []api.Table) (*selection, error) {
-	f := &finder{tables: tables}
+func (f *finder) selection(s *syntax.Select) (*selection, error) {
 	for _, one := range s.Sources {
 		f.source(one)
 	}
@@ -63,17 +68,26 @@ func (f *finder) fail(err error) {
 }
 
 func (f *finder) source(s syntax.Source) {
-	at := slices.IndexFunc(f.tables, func(t api.Table) bool { return t.Name == s.Table.Text })
-	if at < 0 {
+	table := tableNamed(f.tables, s.Table.Text)
+	if table == nil {
 		f.fail(s.Table.Wrong(api.ErrTable))
 		return
 	}
 	if f.spokenOf(s.Alias.Text) != nil {
 		f.fail(s.Alias.Wrong(api.ErrTwice))
 	}
-	table := &f.tables[at]
 	f.found.sources = append(f.found.sources, source{s.Alias.Text, table, f.found.width})
 	f.found.width += len(table.Columns)
+}
+
+// tableNamed is where the table that has this name lies, or nil.
+func tableNamed(tables []api.Table, name string) *api.Table {
+	for i := range tables {
+		if tables[i].Name == name {
+			return &tables[i]
+		}
+	}
+	return nil
 }
 
 // spokenOf is the source that has this name, or nil.
@@ -86,13 +100,43 @@ func (f *finder) spokenOf(alias string) *source {
 	return nil
 }
 
-func (f *finder) item(i syntax.Item) value {
+func (f *finder) item(i syntax.Item) item {
 	if i.Window != nil {
-		// No window can be worked out yet.
-		f.fail(i.Window.Wrong(api.ErrWindow))
-		return nil
+		return f.window(i.Window)
 	}
-	return f.value(i.Value)
+	number := f.value(i.Value)
+	return func(rows [][]int) []int {
+		numbers := make([]int, len(rows))
+		for at, row := range rows {
+			numbers[at] = number(row)
+		}
+		return numbers
+	}
+}
+
+func (f *finder) window(w *syntax.Window) item {
+	if f.inWith {
+		f.fail(w.Wrong(api.ErrWindow))
+	}
+	found := window{call: callNamed(w.Call), ahead: math.MaxInt}
+	found.of = func([]int) int { return 0 }
+	if w.Of != nil {
+		found.of = f.value(w.Of)
+	}
+	found.partition = f.values(w.Partition)
+	found.order = f.values(w.Order)
+	if w.Rows != nil {
+		found.ahead = w.Rows.Value
+	}
+	return found.numbers
+}
+
+func (f *finder) values(exprs []syntax.Expr) []value {
+	var all []value
+	for _, e := range exprs {
+		all = append(all, f.value(e))
+	}
+	return all
 }
 
 func (f *finder) value(e syntax.Expr) value {

@@ -14,10 +14,12 @@ func (s *selection) rows() ([][]int, error) {
 		return nil, err
 	}
 	rows := make([][]int, len(chosen))
-	for i, row := range chosen {
+	for i := range rows {
 		rows[i] = make([]int, len(s.items))
-		for j, item := range s.items {
-			rows[i][j] = item(row)
+	}
+	for j, item := range s.items {
+		for i, number := range item(chosen) {
+			rows[i][j] = number
 		}
 	}
 	return rows, nil

@@ -58,16 +58,6 @@ func TestKnown(t *testing.T) { // P12
 	}
 }
 
-func TestNotYet(t *testing.T) { // `with` and windows are read, and so known, but not worked out
-	q := mustNew(t, edges())
-	checkAt(t, q, "with ^r(a) as (select 1 from e x union select 2 from e x) select 1 from e x", api.ErrTable)
-	checkKnown(t, q, 1)
-	checkAt(t, q, "select ^count() over () from e x", api.ErrWindow)
-	checkKnown(t, q, 2)
-	checkAt(t, q, "select 1, ^sum(x.a) over (partition by x.b) from e x where 1 = 1", api.ErrWindow)
-	checkKnown(t, q, 3)
-}
-
 func TestTextIsNotKept(t *testing.T) { // P2: what the text lies in may be another text later
 	q := mustNew(t, edges())
 	room := []byte("select x.a as n from e x")
