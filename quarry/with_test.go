@@ -3,6 +3,7 @@ package quarry
 import (
 	"math"
 	"reflect"
+	"slices"
 	"strconv"
 	"strings"
 	"testing"
@@ -360,35 +361,47 @@ func TestTablesStayAsTheyAre(t *testing.T) { // P2: a table that a query makes i
 	}
 }
 
-// What `with` makes has the rows of the first select, and those that the second one gives over itself;
-// all of them come of these (P13).
-func TestLeastTable(t *testing.T) {
-	e := edges()
-	q := mustNew(t, e)
-	a, err := q.Ask("with r(a, b) as (select x.a, x.b from e x union select x.a, y.b from r x, e y where x.b = y.a) select r.a, r.b from r r")
-	if err != nil {
-		t.Fatal(err)
-	}
-	over := func(rows [][]int) map[[2]int]int {
-		p := mustNew(t, e, api.Table{Name: "r", Columns: []string{"a", "b"}, Rows: rows})
-		given := map[[2]int]int{}
-		for _, text := range []string{"select x.a, x.b from e x", "select x.a, y.b from r x, e y where x.b = y.a"} {
-			one, err := p.Ask(text)
-			if err != nil {
-				t.Fatal(err)
-			}
-			for _, row := range one.Rows {
-				given[[2]int(row)]++
+// closed tells whether a table of pairs has the first select's rows, and all that the second one gives over it.
+func closed(t *testing.T, e api.Table, rows [][]int, first, second string) bool {
+	t.Helper()
+	q := mustNew(t, e, api.Table{Name: "r", Columns: []string{"a", "b"}, Rows: rows})
+	for _, result := range q.All([]string{first, second}) {
+		if result.Err != nil {
+			t.Fatal(result.Err)
+		}
+		for _, row := range result.Answer.Rows {
+			if !slices.ContainsFunc(rows, func(other []int) bool { return slices.Equal(row, other) }) {
+				return false
 			}
 		}
-		return given
 	}
-	if given := over(a.Rows); len(given) != len(a.Rows) {
-		t.Errorf("%d rows, of which %d come anew: %v", len(a.Rows), len(given), a.Rows)
-	}
-	for _, row := range a.Rows {
-		if over(a.Rows)[[2]int(row)] == 0 {
-			t.Errorf("%v comes of nothing", row)
+	return true
+}
+
+func TestLeastTable(t *testing.T) { // P13: of all tables that have the first select's rows, and what the second one gives over them
+	const first = "select x.a, x.b from e x"
+	e := api.Table{Name: "e", Columns: []string{"a", "b"}, Rows: [][]int{{1, 2}, {3, 1}, {3, 3}}}
+	for _, second := range []string{
+		"select x.a, y.b from r x, e y where x.b = y.a",
+		"select x.a, y.b from r x, r y where x.b = y.a",
+		"select x.b, x.a from r x",
+		"select x.b, y.a from r x, e y where y.b <> x.a",
+		"select x.a, x.a from e x",
+	} {
+		made, err := mustNew(t, e).Ask("with r(a, b) as (" + first + " union " + second + ") select r.a, r.b from r r")
+		if err != nil || !closed(t, e, made.Rows, first, second) {
+			t.Errorf("%q makes %v, %v", second, made.Rows, err)
+		}
+		for set := range 1 << 9 { // of the nine pairs of 1, 2 and 3
+			var rows [][]int
+			for i := range 9 {
+				if set>>i&1 == 1 {
+					rows = append(rows, []int{i/3 + 1, i%3 + 1})
+				}
+			}
+			if len(rows) < len(made.Rows) && closed(t, e, rows, first, second) {
+				t.Errorf("%q makes %v, though %v is less", second, made.Rows, rows)
+			}
 		}
 	}
 }
